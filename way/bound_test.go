@@ -20,6 +20,9 @@ func wantNothing(t *testing.T, what any, r api.Rx, s string, at int) {
 		if l := Ends(r, s, bol, at); l != nil {
 			t.Errorf("%v: ends %v", what, l)
 		}
+		if x, ok := Over(r, s, bol).Farthest(at); ok || x != (State{}) {
+			t.Errorf("%v: farthest %v", what, x)
+		}
 	}
 }
 
@@ -95,6 +98,9 @@ func TestWrongExpressionsHaveNoWays(t *testing.T) {
 			for _, at := range []int{-1, 0, 1, len(s), len(s) + 1} {
 				wantNothing(t, i, r, s, at)
 				wantNothing(t, i, alt(set("a"), r), s, at)
+				if Over(r, s, true).Any() {
+					t.Error(i, len(s))
+				}
 			}
 		}
 	}
@@ -146,6 +152,9 @@ func TestManyWaysEnd(t *testing.T) {
 		if ends := Ends(ere(t, s), as, true, 0); len(ends) != n+1 || ends[0] != 0 || ends[n] != n {
 			t.Error(s, ends)
 		}
+		if x, ok := Over(ere(t, s), as, true).Farthest(0); !ok || x.At != n {
+			t.Error(s, x, ok)
+		}
 	}
 }
 
@@ -185,6 +194,7 @@ func TestWhatIsHandedInStaysAsItWas(t *testing.T) {
 		for at := range 5 {
 			Ways(r, "aabc", true, at)
 			Ends(r, "aabc", false, at)
+			Over(r, "aabc", true).Farthest(at)
 		}
 		if !sameRoom(r, kept) {
 			t.Error(s, r)

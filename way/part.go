@@ -1,6 +1,10 @@
 package way
 
-import "gloss/api"
+import (
+	"slices"
+
+	"gloss/api"
+)
 
 // groups is a set of groups: bit N-1 is group N's.
 type groups uint8
@@ -8,23 +12,14 @@ type groups uint8
 // groupSets is how many sets of groups there are.
 const groupSets = 1 << api.MaxGroups
 
-const everyGroup groups = groupSets - 1
+const (
+	noGroup    groups = 0
+	everyGroup groups = groupSets - 1
+)
 
 func oneGroup(n int) groups { return 1 << (n - 1) }
 
 func (g groups) has(n int) bool { return g&oneGroup(n) != 0 }
-
-// readIn are the groups that something in r refers back to.
-func readIn(r api.Rx) groups {
-	var g groups
-	if r.Kind == api.RBack {
-		g = oneGroup(r.N)
-	}
-	for _, kid := range r.Kids {
-		g |= readIn(kid)
-	}
-	return g
-}
 
 // part is an expression, with what is known of its groups and of its ways.
 type part struct {
@@ -32,6 +27,7 @@ type part struct {
 	set                api.Set
 	kids               []*part
 	use                use
+	heeds              groups           // whose spans make a difference behind it
 	known              map[spot][]spot  // where they end, by where they begin
 	sorted             map[spot]*sorted // the same, for a repetition of p
 }
@@ -42,21 +38,39 @@ type use struct {
 	sets  groups // on every way
 }
 
-// build makes parts of an expression that is right. A group that isn't kept is no more than its kid.
-func build(r api.Rx, keeps groups) *part {
-	if r.Kind == api.RGroup && !keeps.has(r.N) {
-		return build(r.Kids[0], keeps)
-	}
+// build makes parts of an expression that is right.
+func build(r api.Rx) *part {
 	p := &part{kind: r.Kind, low: r.Min, high: r.Max, n: r.N, set: r.Set}
 	if !p.leaf() {
 		p.known = map[spot][]spot{}
 		p.sorted = map[spot]*sorted{}
 	}
 	for _, kid := range r.Kids {
-		p.kids = append(p.kids, build(kid, keeps))
+		p.kids = append(p.kids, build(kid))
 	}
 	p.use = p.used()
 	return p
+}
+
+// heed says of which groups the spans make a difference behind p. Others needn't be told apart: where a group is set anew, or isn't read any more, all that comes of them is alike.
+func (p *part) heed(g groups) {
+	p.heeds = g
+	switch p.kind {
+	case api.RCat:
+		for _, kid := range slices.Backward(p.kids) {
+			kid.heed(g)
+			g = g&^kid.use.sets | kid.use.reads
+		}
+	case api.RAlt:
+		for _, kid := range p.kids {
+			kid.heed(g)
+		}
+	case api.RGroup:
+		p.kids[0].heed(g &^ oneGroup(p.n))
+	case api.RRep:
+		// One more of the kid may follow.
+		p.kids[0].heed(g | p.use.reads)
+	}
 }
 
 // leaf tells whether p goes over the text by itself.

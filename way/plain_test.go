@@ -97,7 +97,29 @@ func wantPlain(t *testing.T, r api.Rx, s string, bol bool, at int) bool {
 		t.Errorf("%s over %q from %d, %v: %s; not %s", rx.Print(r, true), s, at, bol, told(got), told(want))
 	}
 	wantEnds(t, r, s, bol, at, placesOf(want))
+	wantFarthest(t, r, s, bol, at, want)
 	return true
+}
+
+// wantFarthest asks for the first of those of all states that end farthest.
+func wantFarthest(t *testing.T, r api.Rx, s string, bol bool, at int, all []State) {
+	t.Helper()
+	var want State
+	for i, x := range all {
+		if i == 0 || x.At > want.At {
+			want = x
+		}
+	}
+	w := Over(r, s, bol)
+	// What is known from other places makes no difference.
+	for i := range len(s) + 1 {
+		w.Farthest(len(s) - i)
+	}
+	for _, w := range []Walk{w, Over(r, s, bol)} {
+		if got, ok := w.Farthest(at); ok != (len(all) > 0) || got != want {
+			t.Errorf("%s over %q from %d, %v: farthest %v, %v; not %v", rx.Print(r, true), s, at, bol, got, ok, want)
+		}
+	}
 }
 
 // grown are rows, choices, repetitions and groups of one or two of small.

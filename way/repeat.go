@@ -10,7 +10,7 @@ type repeater struct {
 	ends  row
 }
 
-// turn is where one more of the kid begins, behind n of them, of which those ways are gone that leave these groups as they were.
+// turn is where one more of the kid begins, behind n of them, of which those ways are gone that leave these groups, of all that make a difference, as they were.
 type turn struct {
 	n      int8
 	leaves groups
@@ -18,7 +18,7 @@ type turn struct {
 }
 
 func (w walker) rep(p *part, x spot) []spot {
-	r := repeater{walker: w, part: p, begun: map[turn]struct{}{}}
+	r := repeater{walker: w, part: p, begun: map[turn]struct{}{}, ends: row{heeds: p.heeds}}
 	r.behind(0, x)
 	return r.ends.list
 }
@@ -59,10 +59,9 @@ func (r *repeater) next(n int, x spot) []spot {
 // unbegun are the places, rising, of those ways of the kid that are new behind n of it: spots that are apart only by spans which a way sets anew have the same way.
 func (r *repeater) unbegun(all *sorted, n int, x spot) []int {
 	var places []int
-	for i, l := range all.places {
-		leaves := groups(i)
-		from := x.only(leaves | r.part.use.reads)
-		if len(l) > 0 && r.begins(turn{int8(n), leaves, from}) {
+	for i := range all.places {
+		l, leaves := all.places[i], groups(i)
+		if len(l) > 0 && r.begins(turn{int8(n), leaves, x.only(leaves | r.part.use.reads)}) {
 			places = append(places, l...)
 		}
 	}
@@ -77,7 +76,7 @@ func (r *repeater) begins(t turn) bool {
 	return !there
 }
 
-// sorted are spots, and for each set of groups the places of those that lack just their spans.
+// sorted are spots, and for each set of groups the places of those that lack just their spans, of all that make a difference.
 type sorted struct {
 	list   []spot
 	places [groupSets][]int
@@ -89,7 +88,7 @@ func (w walker) sorted(p *part, x spot) *sorted {
 	}
 	s := &sorted{list: w.ways(p, x)}
 	for i, y := range s.list {
-		g := y.lacks()
+		g := y.lacks() & p.heeds
 		s.places[g] = append(s.places[g], i)
 	}
 	p.sorted[x] = s

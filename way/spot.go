@@ -36,6 +36,9 @@ func (x spot) moved(n int) spot {
 
 // only is x with the spans of these groups and no others.
 func (x spot) only(g groups) spot {
+	if g == everyGroup {
+		return x
+	}
 	for i := range x.spans {
 		if !g.has(1 + i) {
 			x.spans[i] = span{from: -1, to: -1}
@@ -68,34 +71,43 @@ func (x spot) behind(y spot) spot {
 // few spots are sooner held against each other one by one than by a map.
 const few = 8
 
-// row is a set of spots, in the order in which they came.
+// row is a set of spots, in the order in which they came. Of those that are apart only by spans which make no difference it has the first.
 type row struct {
-	list []spot
-	seen map[spot]struct{} // the same, if they are more than few
+	heeds  groups // whose spans make a difference
+	list   []spot
+	places uint64            // bit i: there is one at place i
+	seen   map[spot]struct{} // what tells the spots apart, if they are more than few
 }
 
 // add puts x behind the others, unless it is there.
 func (l *row) add(x spot) {
-	if l.has(x) {
+	key := x.only(l.heeds)
+	if l.has(key) {
 		return
 	}
 	l.list = append(l.list, x)
+	l.places |= 1 << x.at
 	switch {
-	case len(l.list) <= few:
+	case len(l.list) <= few || l.heeds == noGroup:
 	case l.seen == nil:
 		l.seen = map[spot]struct{}{}
 		for _, y := range l.list {
-			l.seen[y] = struct{}{}
+			l.seen[y.only(l.heeds)] = struct{}{}
 		}
 	default:
-		l.seen[x] = struct{}{}
+		l.seen[key] = struct{}{}
 	}
 }
 
-func (l *row) has(x spot) bool {
-	if l.seen == nil {
-		return slices.Contains(l.list, x)
+func (l *row) has(key spot) bool {
+	switch {
+	case l.places>>key.at&1 == 0:
+		return false
+	case l.heeds == noGroup:
+		return true
+	case l.seen == nil:
+		return slices.ContainsFunc(l.list, func(x spot) bool { return x.only(l.heeds) == key })
 	}
-	_, there := l.seen[x]
+	_, there := l.seen[key]
 	return there
 }

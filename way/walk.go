@@ -39,7 +39,7 @@ func (w walker) found(p *part, x spot) []spot {
 	case api.RCat:
 		return w.cat(p.kids, x)
 	case api.RAlt:
-		return w.alt(p.kids, x)
+		return w.alt(p, x)
 	case api.RGroup:
 		return w.group(p, x)
 	}
@@ -75,7 +75,7 @@ func (w walker) step(p *part, x spot) (int, bool) {
 func (w walker) cat(kids []*part, x spot) []spot {
 	l := []spot{x}
 	for _, kid := range kids {
-		var next row
+		next := row{heeds: kid.heeds}
 		for _, y := range l {
 			w.walk(kid, y, &next)
 		}
@@ -84,9 +84,9 @@ func (w walker) cat(kids []*part, x spot) []spot {
 	return l
 }
 
-func (w walker) alt(kids []*part, x spot) []spot {
-	var l row
-	for _, kid := range kids {
+func (w walker) alt(p *part, x spot) []spot {
+	l := row{heeds: p.heeds}
+	for _, kid := range p.kids {
 		w.walk(kid, x, &l)
 	}
 	return l.list

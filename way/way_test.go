@@ -285,3 +285,21 @@ func TestEndsRiseEachOnce(t *testing.T) {
 	wantEnds(t, first(), "a", true, 0, []int{0})
 	wantEnds(t, first(), "a", true, 1, nil)
 }
+
+// What there is beside the chapter's, for find.
+
+func TestAWalkIsGoneFromManyPlaces(t *testing.T) {
+	w := Over(ere(t, "(a|ab)(c|bcd)|b"), "abcdab", true)
+	if !w.Any() {
+		t.Error("there are ways")
+	}
+	for at, want := range []string{"4 1:0-1 2:1-4", "2", "", "", "", "6", ""} {
+		x, ok := w.Farthest(at)
+		if got := told([]State{x}); ok != (want != "") || ok && got != want || !ok && x != (State{}) {
+			t.Errorf("from %d: %s, %v", at, got, ok)
+		}
+	}
+	if x, ok := (Walk{}).Farthest(0); ok || x != (State{}) || (Walk{}).Any() {
+		t.Error(x, ok)
+	}
+}
